@@ -1,0 +1,1 @@
+"""Odds: hands and draws from a deck, exactly."""
