@@ -10,7 +10,7 @@ ANY = "|"
 
 # A comparison of some kinds with a number, or what's made of so many parts that stand before it.
 class Step:
-    def __init__(self, sign, parts, kinds=(), number=0):
+    def __init__(self, sign, parts, kinds, number):
         self.sign = sign
         self.parts = parts
         self.kinds = kinds
@@ -21,8 +21,13 @@ def comparison(kinds, sign, number):
     return [Step(sign, 0, tuple(kinds), number)]
 
 
+# What's made of parts compares nothing itself.
+def made_of_parts(sign, parts):
+    return Step(sign, parts, (), 0)
+
+
 def denied(condition, times):
-    return condition + [Step(NOT, 1) for turn in range(times)]
+    return condition + [made_of_parts(NOT, 1) for turn in range(times)]
 
 
 # An all or an any of some conditions, or the one itself if it's alone.
@@ -40,7 +45,7 @@ def joined(conditions, sign):
         else:
             steps.extend(condition)
             parts += 1
-    steps.append(Step(sign, parts))
+    steps.append(made_of_parts(sign, parts))
     return steps
 
 

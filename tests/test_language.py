@@ -67,6 +67,8 @@ def node_faults(node):
                 yield "L20 is"
     if isinstance(node, ast.arguments) and (node.vararg or node.kwarg or node.kwonlyargs or node.posonlyargs):
         yield "L4 parameters"
+    if isinstance(node, (ast.FunctionDef, ast.Lambda)) and not all(is_plain(value) for value in node.args.defaults):
+        yield "L4 a default"
     if isinstance(node, ast.arg):
         if node.annotation or hasattr(builtins, node.arg) or not re.fullmatch("[A-Za-z][A-Za-z0-9_]*", node.arg):
             yield "L12, L15 or L21 " + node.arg
@@ -75,6 +77,13 @@ def node_faults(node):
             yield "L8 " + node.id
         if isinstance(node.ctx, ast.Store) and (hasattr(builtins, node.id) or node.id.startswith("_")):
             yield "L12 or L15 " + node.id
+
+
+def is_plain(node):
+    """Whether it's a whole number, a text, True, False or None, as a default must be."""
+    if isinstance(node, ast.UnaryOp) and isinstance(node.op, ast.USub):
+        return isinstance(node.operand, ast.Constant) and type(node.operand.value) is int
+    return isinstance(node, ast.Constant) and (node.value is None or type(node.value) in (int, str, bool))
 
 
 def statement_faults(node):
@@ -174,6 +183,23 @@ class LanguageTest(unittest.TestCase):
                        "def f(x):\n    return f'{x.y}'\n", "def f(x):\n    x.sort()\n", "# a type\n", "x = b''\n",
                        "from .desk import x\n", "def f():\n    with g():\n        pass\n", "x = '\t'  # \u00e9\n"):
             self.assertNotEqual(faults(source), [], source)
+
+    def test_defaults_that_are_no_plain_values_are_found(self):
+        for default in ("()", "[]", "{}", "(1, 2)", "[1]", "{1: 2}", "((), 0)", "tuple()", "list()", "1 + 1", "len", "LIMIT",
+                        "-LIMIT", "f'a'", "lambda: 1", "1 if True else 2", "-True", "1.5", "..."):
+            for form in ("def f(x={}):\n    pass\n", "def f(x, y=1, z={}):\n    pass\n",
+                         "class C:\n    def f(self, x={}):\n        pass\n",
+                         "class C:\n    def __init__(self, x, y={}, z=0):\n        pass\n",
+                         "def f():\n    def g(x={}):\n        pass\n    g()\n",
+                         "def f():\n    return lambda x={}: x\n"):
+                source = form.replace("{}", default)
+                self.assertRegex(" ".join(faults(source)), "L4 a default", source)
+
+    def test_plain_defaults_are_no_faults(self):
+        for default in ("0", "12", "-1", "'a'", "''", "True", "False", "None"):
+            for form in ("def f(x, y={}):\n    return y\n", "class C:\n    def f(self, x={}):\n        pass\n"):
+                source = form.replace("{}", default)
+                self.assertEqual(faults(source), [], source)
 
 
 if __name__ == "__main__":
