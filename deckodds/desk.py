@@ -1,51 +1,30 @@
 """The calls on a deck, as one list of whole numbers, and their answers."""
 
-from deckodds.chances import chance, chance_given, first_chances, fraction
+from deckodds.chances import all_hands, chance, chance_given, first_chances, fraction, least_change, order, spread
 from deckodds.deck import MOST_CARDS, Deck
+from deckodds.feed import Feed
 from deckodds.grammar import read_condition
+from deckodds.keeping import advice, best_chance, keep_chance
 from deckodds.letters import as_bytes, as_letters, is_name
-from deckodds.refusals import NoCondition, OutOfRange, Refusal, TooFewCards
+from deckodds.needs import (
+    MOST_IN_HAND,
+    need_between,
+    need_cards_in_order,
+    need_draw,
+    need_hand,
+    need_kind,
+    need_least,
+    need_range,
+    need_row,
+    need_two_kinds,
+)
+from deckodds.numbering import hand_at, number_of, scrambled
+from deckodds.refusals import NoCondition, NoneSuch, OutOfRange, Refusal
 from deckodds.truth import truths
 from deckodds.wording import one_text
 
-MOST_IN_HAND = 7
-MOST_DRAWN = 5
-
-
-# Goes through the list of calls, which it leaves as it is.
-class Feed:
-    def __init__(self, calls):
-        self.calls = calls
-        self.position = 0
-
-    def ended(self):
-        return self.position == len(self.calls)
-
-    def whole_number(self):
-        self.position += 1
-        return self.calls[self.position - 1]
-
-    def row(self):
-        length = self.whole_number()
-        start = self.position
-        self.position += length
-        return self.calls[start:start + length]
-
-
-def need_range(number, most):
-    if not 0 <= number <= most:
-        raise OutOfRange()
-
-
-def need_kind(deck, kind):
-    need_range(kind, len(deck.counts) - 1)
-
-
-def need_row(deck, numbers):
-    if len(numbers) != len(deck.counts):
-        raise OutOfRange()
-    for number, count in zip(numbers, deck.counts):
-        need_range(number, count)
+GREATEST_NUMBER = 1000000000000000000
+GREATEST_DENOMINATOR = 1000000000
 
 
 # In each answer below, the refusals are looked for in their order, the nearest to 0 first,
@@ -90,7 +69,7 @@ def answer_true(deck, feed):
     numbers = feed.row()
     need_row(deck, numbers)
     condition = read_condition(text, deck.names)
-    return [0, 1 if truths(condition, [numbers])[0] else 0]
+    return [0, 1 if truths(condition, [[number] for number in numbers])[0] else 0]
 
 
 def answer_hand(deck, feed):
@@ -107,12 +86,11 @@ def answer_after(deck, feed):
 
 
 def answer_cards(deck, h, d, text):
-    need_range(h, MOST_IN_HAND)
-    need_range(d, MOST_DRAWN)
+    need_hand(h)
+    need_draw(d)
     condition = read_condition(text, deck.names)
     deck.need_cards(h + d)
-    # A hand and what's drawn behind it are together as likely as any hand of so many cards.
-    return [0] + chance(deck.counts, h + d, condition)
+    return [0] + chance(deck, h + d, condition)
 
 
 def answer_given(deck, feed):
@@ -120,34 +98,152 @@ def answer_given(deck, feed):
     d = feed.whole_number()
     text_known = feed.row()
     text_asked = feed.row()
-    need_range(h, MOST_IN_HAND)
-    need_range(d, MOST_DRAWN)
+    need_hand(h)
+    need_draw(d)
     known = read_condition(text_known, deck.names)
     asked = read_condition(text_asked, deck.names)
     deck.need_cards(h + d)
-    return [0] + chance_given(deck.counts, h, d, known, asked)
+    return [0] + chance_given(deck, h, d, known, asked)
 
 
 def answer_first(deck, feed):
     h = feed.whole_number()
     d = feed.whole_number()
     text = feed.row()
-    need_range(h, MOST_IN_HAND)
-    need_range(d, MOST_DRAWN)
+    need_hand(h)
+    need_draw(d)
     condition = read_condition(text, deck.names)
     deck.need_cards(h + d)
-    return [0] + first_chances(deck.counts, h, d, condition)
+    return [0] + first_chances(deck, h, d, condition)
 
 
 def answer_mean(deck, feed):
     h = feed.whole_number()
     kind = feed.whole_number()
-    need_range(h, MOST_IN_HAND)
+    need_hand(h)
     need_kind(deck, kind)
-    deck.need_cards(h)
-    if deck.cards() == 0:
-        raise TooFewCards()
+    # Of no cards there's no mean.
+    deck.need_cards(max(h, 1))
     return [0] + fraction(h * deck.counts[kind], deck.cards())
+
+
+def answer_spread(deck, feed):
+    h = feed.whole_number()
+    kind = feed.whole_number()
+    need_hand(h)
+    need_kind(deck, kind)
+    deck.need_cards(max(h, 2))
+    return [0] + spread(deck, h, kind)
+
+
+def answer_keep(deck, feed):
+    h = feed.whole_number()
+    least = feed.whole_number()
+    d = feed.whole_number()
+    text_keeping = feed.row()
+    text_asked = feed.row()
+    need_hand(h)
+    need_least(least, h)
+    need_draw(d)
+    keeping = read_condition(text_keeping, deck.names)
+    asked = read_condition(text_asked, deck.names)
+    deck.need_cards(h + d)
+    return [0] + keep_chance(deck, h, least, d, keeping, asked)
+
+
+def answer_best(deck, feed):
+    h = feed.whole_number()
+    least = feed.whole_number()
+    d = feed.whole_number()
+    text = feed.row()
+    need_hand(h)
+    need_least(least, h)
+    need_draw(d)
+    asked = read_condition(text, deck.names)
+    deck.need_cards(h + d)
+    found = best_chance(deck, h, least, d, asked)
+    return [0] + found[0] + found[1]
+
+
+def answer_advise(deck, feed):
+    least = feed.whole_number()
+    d = feed.whole_number()
+    text = feed.row()
+    numbers = feed.row()
+    need_range(least, MOST_IN_HAND)
+    need_draw(d)
+    need_row(deck, numbers)
+    need_between(sum(numbers), least + 1, MOST_IN_HAND)
+    asked = read_condition(text, deck.names)
+    deck.need_cards(sum(numbers) + d)
+    return [0] + advice(deck, numbers, least, d, asked)
+
+
+def answer_nth(deck, feed):
+    h = feed.whole_number()
+    i = feed.whole_number()
+    need_hand(h)
+    need_range(i, GREATEST_NUMBER)
+    deck.need_cards(h)
+    if i >= all_hands(deck, h):
+        raise NoneSuch()
+    return [0] + cards_and_row(deck, h, i)
+
+
+def cards_and_row(deck, h, number):
+    hand = hand_at(deck.cards(), h, number)
+    return hand + deck.row_of(hand)
+
+
+def answer_number(deck, feed):
+    hand = feed.row()
+    need_cards_in_order(deck, hand)
+    return [0, number_of(deck.cards(), hand)]
+
+
+def answer_deal(deck, feed):
+    seed = feed.whole_number()
+    h = feed.whole_number()
+    need_range(seed, GREATEST_NUMBER)
+    need_hand(h)
+    deck.need_cards(h)
+    x = scrambled(seed)
+    return [0, x] + cards_and_row(deck, h, x % all_hands(deck, h))
+
+
+def answer_least(deck, feed):
+    a = feed.whole_number()
+    b = feed.whole_number()
+    h = feed.whole_number()
+    d = feed.whole_number()
+    p = feed.whole_number()
+    q = feed.whole_number()
+    text = feed.row()
+    need_two_kinds(deck, a, b)
+    need_hand(h)
+    need_draw(d)
+    need_between(q, 1, GREATEST_DENOMINATOR)
+    need_range(p, q)
+    condition = read_condition(text, deck.names)
+    deck.need_cards(h + d)
+    return [0] + least_change(deck, a, b, h + d, (p, q), condition)
+
+
+def answer_compare(deck, feed):
+    h = feed.whole_number()
+    d = feed.whole_number()
+    text_one = feed.row()
+    text_other = feed.row()
+    need_hand(h)
+    need_draw(d)
+    one = read_condition(text_one, deck.names)
+    other = read_condition(text_other, deck.names)
+    deck.need_cards(h + d)
+    return [0, order(chance(deck, h + d, one), chance(deck, h + d, other))]
+
+
+def answer_deck(deck, feed):
+    return [0, deck.cards()] + deck.counts
 
 
 # By the calls' numbers.
@@ -162,6 +258,16 @@ ANSWERS = (
     answer_given,
     answer_first,
     answer_mean,
+    answer_spread,
+    answer_keep,
+    answer_best,
+    answer_advise,
+    answer_nth,
+    answer_number,
+    answer_deal,
+    answer_least,
+    answer_compare,
+    answer_deck,
 )
 
 

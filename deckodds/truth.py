@@ -1,19 +1,20 @@
 """Of which rows a condition is true.
 
-All rows are asked together, a step of the condition at a time: there may be many.
+All rows are asked together, a step of the condition at a time: there may be many. They come as columns, one for each
+kind, with a number for each row.
 """
 
 from deckodds.condition import ALL, NOT, worked_out
 
 
 # For each row in turn whether the condition is true of it.
-def truths(condition, rows):
-    return worked_out(condition, lambda step, parts: step_truths(step, parts, rows))
+def truths(condition, columns):
+    return worked_out(condition, lambda step, parts: step_truths(step, parts, columns))
 
 
-def step_truths(step, parts, rows):
+def step_truths(step, parts, columns):
     if step.parts == 0:
-        return compared(sums(step.kinds, rows), step.sign, step.number)
+        return compared(sums(step.kinds, columns), step.sign, step.number)
     if step.sign == NOT:
         return [not truth for truth in parts[0]]
     found = parts[0]
@@ -26,11 +27,13 @@ def step_truths(step, parts, rows):
 
 
 # For each row how many cards it has of these kinds, each counted as often as it stands there.
-def sums(kinds, rows):
-    found = [0 for row in rows]
+def sums(kinds, columns):
+    if len(kinds) == 1:
+        return columns[kinds[0]]
+    found = [0 for taken in columns[0]]
     for kind in sorted(set(kinds)):
         times = kinds.count(kind)
-        found = [number + times * row[kind] for number, row in zip(found, rows)]
+        found = [number + times * taken for number, taken in zip(found, columns[kind])]
     return found
 
 

@@ -10,7 +10,9 @@ from fractions import Fraction
 
 from deckodds.desk import answers
 
-NAMES = ("kind", "count", "read", "form", "true", "hand", "after", "given", "first", "mean")
+NAMES = ("kind", "count", "read", "form", "true", "hand", "after", "given", "first", "mean", "spread", "keep", "best",
+         "advise", "nth", "number", "deal", "least", "compare", "deck")
+FAR = 1000000000000000000
 
 
 def flat_call(call):
@@ -226,3 +228,110 @@ def listed_first(deck, h, d, text):
         true_at = [j for j in range(d + 1) if holds(tree, hand + draws[:j])]
         found[min(true_at, default=d + 1)] += 1
     return told(*[Fraction(number, whole) for number in found[:d + 1]])
+
+
+def listed_spread(deck, h, kind):
+    name = list(deck)[kind]
+    numbers = [Fraction(hand.count(name)) for hand, draws in listed_hands(deck, h, 0)]
+    mean = sum(numbers) / len(numbers)
+    return told(sum((number - mean) ** 2 for number in numbers) / len(numbers))
+
+
+def listed_row(deck, hand):
+    """The row of a hand that's told by its cards' numbers."""
+    found = [cards(deck)[card] for card in hand]
+    return tuple(found.count(name) for name in deck)
+
+
+class Listing:
+    """Hands of a small deck that are kept or given back; a hand is its cards' numbers."""
+
+    def __init__(self, deck, d, text):
+        self.deck = deck
+        self.d = d
+        self.tree = oracle(text, deck)
+        self.known = {}
+
+    def names(self, hand):
+        return [cards(self.deck)[card] for card in hand]
+
+    def hands(self, size):
+        return list(itertools.combinations(range(len(cards(self.deck))), size))
+
+    def kept(self, hand):
+        """The chance once the hand is kept."""
+        if hand not in self.known:
+            rest = [card for card in range(len(cards(self.deck))) if card not in hand]
+            truths = [holds(self.tree, self.names(hand + draws)) for draws in itertools.combinations(rest, self.d)]
+            self.known[hand] = Fraction(sum(truths), len(truths))
+        return self.known[hand]
+
+    def chance(self, size, least, is_kept):
+        """The chance if a hand is kept where is_kept(hand) says so."""
+        hands = self.hands(size)
+        if size <= least:
+            return sum(self.kept(hand) for hand in hands) / Fraction(len(hands))
+        back = self.chance(size - 1, least, is_kept)
+        return sum(self.kept(hand) if is_kept(hand) else back for hand in hands) / Fraction(len(hands))
+
+    def greatest(self, size, least):
+        hands = self.hands(size)
+        if size <= least:
+            return sum(self.kept(hand) for hand in hands) / Fraction(len(hands))
+        back = self.greatest(size - 1, least)
+        return sum(max(self.kept(hand), back) for hand in hands) / Fraction(len(hands))
+
+    def rows_kept(self, size, least):
+        back = self.greatest(size - 1, least)
+        return {listed_row(self.deck, hand) for hand in self.hands(size) if self.kept(hand) >= back}
+
+
+def listed_keep(deck, h, least, d, text_a, text_b):
+    listing = Listing(deck, d, text_b)
+    tree = oracle(text_a, deck)
+    return told(listing.chance(h, least, lambda hand: holds(tree, listing.names(hand))))
+
+
+def listed_best(deck, h, least, d, text):
+    listing = Listing(deck, d, text)
+    numbers = [len(listing.rows_kept(size, least)) for size in range(h, least, -1)]
+    return told(listing.greatest(h, least)) + numbers
+
+
+def listed_advise(deck, least, d, text, row):
+    listing = Listing(deck, d, text)
+    hand = next(hand for hand in listing.hands(sum(row)) if listed_row(deck, hand) == tuple(row))
+    kept = listing.kept(hand)
+    back = listing.greatest(len(hand) - 1, least)
+    return [0, int(kept >= back)] + told(kept, back)[1:]
+
+
+def listed_nth(deck, h, i):
+    hands = list(itertools.combinations(range(len(cards(deck))), h))
+    return [0, *hands[i], *listed_row(deck, hands[i])] if i < len(hands) else [-8]
+
+
+def listed_number(deck, hand):
+    return [0, list(itertools.combinations(range(len(cards(deck))), len(hand))).index(tuple(hand))]
+
+
+def listed_deal(deck, seed, h):
+    x = (seed * 6364136223846793005 + 1442695040888963407) % 2 ** 64
+    hands = list(itertools.combinations(range(len(cards(deck))), h))
+    return [0, x] + listed_nth(deck, h, x % len(hands))[1:]
+
+
+def listed_least(deck, a, b, h, d, p, q, text):
+    names = list(deck)
+    for n in range(deck[names[b]] + 1):
+        changed = {**deck, names[a]: deck[names[a]] + n, names[b]: deck[names[b]] - n}
+        chance = listed_after(changed, h, d, text)
+        if Fraction(chance[1], chance[2]) >= Fraction(p, q):
+            return [0, n] + chance[1:]
+    return [-8]
+
+
+def listed_compare(deck, h, d, text_a, text_b):
+    chances = [listed_after(deck, h, d, text) for text in (text_a, text_b)]
+    one, other = [Fraction(chance[1], chance[2]) for chance in chances]
+    return [0, 0 if one < other else 1 if one == other else 2]

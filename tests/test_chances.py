@@ -1,12 +1,11 @@
-"""The calls hand, after, given, first and mean."""
+"""The calls hand, after, given, first, mean and spread."""
 
 import unittest
 from fractions import Fraction
 from math import comb
 
-from helper import ask, ask_deck, ask_one, listed_after, listed_first, listed_given, told
+from helper import FAR, ask, ask_deck, ask_one, listed_after, listed_first, listed_given, listed_spread, told
 
-FAR = 1000000000000000000
 DECKS = ({"a": 4}, {"a": 3, "b": 2}, {"a": 0, "b": 3, "c": 2}, {"a": 2, "b": 1, "c": 2, "d": 1},
          {"a": 1, "b": 2, "c": 0, "d": 1, "e": 2}, {"a": 0, "b": 0})
 TEXTS = ("a>=1", "!a=1", "a=2|a=0", "a+b>=2", "b>=1&a<2", "!(a=1|b=1)", "a+a+b>3", "c>=1", "c=1|b+a=2&c=0", "e>=1&d=0",
@@ -235,6 +234,51 @@ class MeanTest(unittest.TestCase):
         self.assertEqual(ask_one({"a": 0}, "mean", 0, 1), [-1])
         self.assertEqual(ask_one({"a": 2}, "mean", 8, 0), [-1])
         self.assertEqual(ask_one({"a": 2}, "mean", 7, 1), [-1])
+
+
+class SpreadTest(unittest.TestCase):
+    def test_small_decks(self):
+        for deck in DECKS:
+            for h in range(min(7, sum(deck.values())) + 1):
+                for kind in range(len(deck)):
+                    expected = listed_spread(deck, h, kind) if sum(deck.values()) >= 2 else [-7]
+                    self.assertEqual(ask_one(deck, "spread", h, kind), expected, (deck, h, kind))
+
+    def test_by_hand(self):
+        # One card of two, one of which is an a: it's always a half away from the mean.
+        self.assertEqual(ask_one({"a": 1, "b": 1}, "spread", 1, 0), [0, 1, 4])
+        # Two of four: no a, one, two in 1, 4, 1 of 6 hands.
+        self.assertEqual(ask_one({"a": 2, "b": 2}, "spread", 2, 1), [0, 1, 3])
+
+    def test_against_the_chances(self):
+        deck = {"a": 24, "b": 36, "c": 0}
+        chances = [ask_one(deck, "hand", 7, "a=" + str(number)) for number in range(8)]
+        mean = Fraction(7 * 24, 60)
+        total = sum((number - mean) ** 2 * Fraction(part[1], part[2]) for number, part in enumerate(chances))
+        found = ask_deck(deck, ("spread", 7, 0), ("spread", 7, 1), ("spread", 7, 2), ("spread", 0, 0))
+        self.assertEqual(found, [told(total), told(total), [0, 0, 1], [0, 0, 1]])
+
+    def test_no_card_one_card_and_two(self):
+        self.assertEqual(ask_deck({"a": 0, "b": 0}, ("spread", 0, 0), ("spread", 1, 1)), [[-7], [-7]])
+        self.assertEqual(ask_deck({"a": 1, "b": 0}, ("spread", 0, 0), ("spread", 1, 0), ("spread", 1, 1), ("mean", 1, 0)),
+                         [[-7], [-7], [-7], [0, 1, 1]])
+        self.assertEqual(ask_deck({"a": 1, "b": 1}, ("spread", 0, 0), ("spread", 1, 0), ("spread", 2, 0), ("spread", 3, 0)),
+                         [[0, 0, 1], [0, 1, 4], [0, 0, 1], [-7]])
+
+    def test_just_enough_cards_and_one_less(self):
+        self.assertEqual(ask_one({"a": 3, "b": 4}, "spread", 7, 0), [0, 0, 1])
+        self.assertEqual(ask_deck({"a": 3, "b": 3}, ("spread", 7, 0), ("deck",)), [[-7], [0, 6, 3, 3]])
+
+    def test_refusals(self):
+        for h, kind in ((-1, 0), (8, 0), (1, -1), (1, 2), (FAR, 0), (-FAR, 0), (0, FAR), (0, -FAR)):
+            found = ask_deck({"a": 9, "b": 9}, ("spread", h, kind), ("deck",))
+            self.assertEqual(found, [[-1], [0, 18, 9, 9]], (h, kind))
+        self.assertEqual(ask(("spread", 0, 0)), [[-1]])
+
+    def test_nearest_refusal_to_0_is_answered(self):
+        self.assertEqual(ask_one({"a": 0}, "spread", 0, 1), [-1])
+        self.assertEqual(ask_one({"a": 2}, "spread", 8, 0), [-1])
+        self.assertEqual(ask_one({"a": 1}, "spread", 7, 1), [-1])
 
 
 if __name__ == "__main__":

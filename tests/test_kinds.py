@@ -1,10 +1,8 @@
-"""The calls kind and count, and what a deck may hold."""
+"""The calls kind, count and deck, and what a deck may hold."""
 
 import unittest
 
-from helper import ask, ask_deck
-
-FAR = 1000000000000000000
+from helper import FAR, ask, ask_deck, ask_one
 
 
 class KindTest(unittest.TestCase):
@@ -91,6 +89,27 @@ class CountTest(unittest.TestCase):
     def test_refusal_leaves_the_deck(self):
         found = ask_deck({"a": 60, "b": 40}, ("count", 1, 41), ("count", 1, 101), ("hand", 1, "b=1"))
         self.assertEqual(found, [[-4], [-1], [0, 2, 5]])
+
+
+class DeckTest(unittest.TestCase):
+    def test_no_kinds(self):
+        self.assertEqual(ask(("deck",), ("deck",)), [[0, 0], [0, 0]])
+
+    def test_all_cards_and_each_count(self):
+        self.assertEqual(ask_one({"a": 3}, "deck"), [0, 3, 3])
+        self.assertEqual(ask_one({"a": 0, "b": 0}, "deck"), [0, 0, 0, 0])
+        self.assertEqual(ask_one({"e": 60, "d": 0, "c": 1, "b": 39, "a": 0}, "deck"), [0, 100, 60, 0, 1, 39, 0])
+
+    def test_as_it_is_now(self):
+        found = ask(("deck",), ("kind", 5, "a"), ("deck",), ("kind", 7, "b"), ("deck",), ("count", 0, 2), ("deck",),
+                    ("kind", 7, "b"), ("kind", 101, "c"), ("count", 1, 99), ("count", 2, 1), ("deck",), ("count", 1, 98),
+                    ("deck",))
+        self.assertEqual(found, [[0, 0], [0, 0], [0, 5, 5], [0, 1], [0, 12, 5, 7], [0, 9], [0, 9, 2, 7], [-5], [-1], [-4],
+                                 [-1], [0, 9, 2, 7], [0, 100], [0, 100, 2, 98]])
+
+    def test_what_is_answered_is_no_part_of_the_deck(self):
+        found = ask(("kind", 5, "a"), ("deck",), ("count", 0, 6), ("deck",), ("kind", 1, "b"), ("deck",))
+        self.assertEqual(found[1::2], [[0, 5, 5], [0, 6, 6], [0, 7, 6, 1]])
 
 
 if __name__ == "__main__":

@@ -2,9 +2,7 @@
 
 import unittest
 
-from helper import ask, ask_deck, ask_one
-
-FAR = 1000000000000000000
+from helper import FAR, ask, ask_deck, ask_one
 
 
 class TrueTest(unittest.TestCase):
